@@ -1,0 +1,105 @@
+"""Greatest flows counted in ways of the tests' own, without anything of the program but its houses."""
+
+from collections import deque
+
+
+def most_laid_out(house, lot, bell):
+    """The greatest flow over all turns laid out: a node for each place at each turn."""
+    graph = {}
+
+    def lay(begin, end, room):
+        graph.setdefault(begin, {})
+        graph.setdefault(end, {})
+        graph[begin][end] = graph[begin].get(end, 0) + room
+        graph[end].setdefault(begin, 0)
+
+    for turn in range(bell + 1):
+        for begin, end, length, room in house.roads():
+            if turn + length <= bell:
+                lay((begin, turn), (end, turn + length), room)
+        for door, (sort, place, hour) in enumerate(house.doors()):
+            if sort == "in" and door in lot and turn >= hour:
+                lay("source", (place, turn), 10 ** 6)
+            if sort == "out" and door not in lot and turn <= bell - hour:
+                lay((place, turn), "sink", 10 ** 6)
+    return greatest_flow(graph)
+
+
+def greatest_flow(graph):
+    total = 0
+    while True:
+        came = {"source": None}
+        waiting = deque(["source"])
+        while waiting and "sink" not in came:
+            node = waiting.popleft()
+            for end, room in graph.get(node, {}).items():
+                if room > 0 and end not in came:
+                    came[end] = node
+                    waiting.append(end)
+        if "sink" not in came:
+            return total
+        way = []
+        node = "sink"
+        while came[node] is not None:
+            way.append((came[node], node))
+            node = came[node]
+        amount = min(graph[begin][end] for begin, end in way)
+        for begin, end in way:
+            graph[begin][end] -= amount
+            graph[end][begin] += amount
+        total += amount
+
+
+def most_by_rings(house, lot, bell):
+    """What a flow that takes the same each turn brings, made better ring by ring till none is left to better it.
+
+    An arc from the sink back to the source has a length of -(bell + 1): so a ring that goes by it is worth
+    as much as it can be begun in time. Other than the program it never looks for shortest ways.
+    """
+    wide = sum(road[3] for road in house.roads()) + 1
+    arcs = []
+    for begin, end, length, room in house.roads():
+        arcs.append([begin, end, length, room])
+    for door, (sort, place, hour) in enumerate(house.doors()):
+        if sort == "in" and door in lot:
+            arcs.append(["source", place, hour, wide])
+        if sort == "out" and door not in lot:
+            arcs.append([place, "sink", hour, wide])
+    arcs.append(["sink", "source", -(bell + 1), wide])
+    both = []
+    for begin, end, length, room in arcs:
+        both.append([begin, end, length, room])
+        both.append([end, begin, -length, 0])
+    gained = 0
+    ring = bettering_ring(both)
+    while ring:
+        amount = min(both[at][3] for at in ring)
+        gained -= amount * sum(both[at][2] for at in ring)
+        for at in ring:
+            both[at][3] -= amount
+            both[at ^ 1][3] += amount
+        ring = bettering_ring(both)
+    return gained
+
+
+def bettering_ring(both):
+    """The indexes of arcs of a ring of length below 0 with room left, None if there is none."""
+    nodes = {arc[0] for arc in both}
+    far = {node: 0 for node in nodes}
+    came = {}
+    last = None
+    for _ in range(len(nodes) + 1):
+        last = None
+        for at, (begin, end, length, room) in enumerate(both):
+            if room > 0 and far[begin] + length < far[end]:
+                far[end] = far[begin] + length
+                came[end] = at
+                last = end
+        if last is None:
+            return None
+    for _ in range(len(nodes)):
+        last = both[came[last]][0]
+    ring = [came[last]]
+    while both[ring[-1]][0] != last:
+        ring.append(came[both[ring[-1]][0]])
+    return ring

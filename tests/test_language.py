@@ -1,0 +1,132 @@
+"""What of the rules of the language can be seen from the code alone, file by file."""
+
+import ast
+import os
+import re
+import unittest
+
+HERE = os.path.dirname(os.path.abspath(__file__))
+PACKAGE = os.path.join(os.path.dirname(HERE), "lastbell")
+BUILTINS = {"len", "range", "enumerate", "zip", "min", "max", "sum", "abs", "sorted", "reversed", "int", "str",
+            "bool", "list", "tuple", "dict", "set", "isinstance", "any", "all", "divmod", "repr", "ord"}
+LIBRARY = {"heapq": {"heappush", "heappop"}, "math": {"gcd", "lcm"},
+           "itertools": {"product", "combinations", "permutations"}}
+METHODS = {"append", "clear", "copy", "count", "extend", "get", "index", "insert", "items", "join", "keys", "pop",
+           "remove", "reverse", "setdefault", "update", "values", "sort"}
+BARRED = re.compile(r"\b(typing|enum|Enum|Generic|Protocol|ABC|namedtuple|TypedDict|Flag|register|mro|_wall)\b"
+                    r"|dataclass|overload|contextmanager")
+UNWANTED = (ast.Lambda, ast.AsyncFunctionDef, ast.Global, ast.Nonlocal, ast.Try, ast.With, ast.Yield, ast.YieldFrom,
+            ast.GeneratorExp, ast.Starred, ast.NamedExpr, ast.Match, ast.JoinedStr, ast.Div, ast.Assert, ast.Delete)
+LET_STAR = (ast.List, ast.Tuple)
+
+
+def sources():
+    for name in sorted(os.listdir(PACKAGE)):
+        if name != "__pycache__":
+            with open(os.path.join(PACKAGE, name), encoding="utf-8") as file:
+                yield name, file.read()
+
+
+def trees():
+    for name, text in sources():
+        yield name, ast.parse(text)
+
+
+class LanguageTest(unittest.TestCase):
+
+    def test_files(self):
+        for name, text in sources():
+            self.assertRegex(name, r"^[a-z_][a-z0-9_]*\.py$")
+            lines = text.split("\n")
+            self.assertLessEqual(len(lines), 399, name)
+            self.assertTrue(all(len(line) <= 120 for line in lines), name)
+            self.assertTrue(all(sign == "\n" or " " <= sign <= "~" for sign in text), name)
+            self.assertIsNone(BARRED.search(text), name)
+
+    def test_functions_are_small(self):
+        for name, tree in trees():
+            for node in ast.walk(tree):
+                if isinstance(node, ast.FunctionDef):
+                    self.assertLessEqual(node.end_lineno - node.lineno + 1, 40, (name, node.name))
+                    self.assertEqual(node.decorator_list, [], (name, node.name))
+
+    def test_imports(self):
+        for name, tree in trees():
+            for node in ast.walk(tree):
+                self.assertNotIsInstance(node, ast.Import, name)
+                if isinstance(node, ast.ImportFrom):
+                    self.assertIn(node, tree.body, name)
+                    self.assertEqual(node.level, 0, name)
+                    self.assertTrue(all(one.asname is None and one.name != "*" for one in node.names), name)
+                    if not node.module.startswith("lastbell."):
+                        self.assertLessEqual({one.name for one in node.names}, LIBRARY[node.module], name)
+
+    def test_imports_name_the_file_that_defines(self):
+        defined = {name[:-3]: {node.name for node in tree.body if isinstance(node, (ast.FunctionDef, ast.ClassDef))}
+                   for name, tree in trees()}
+        for name, tree in trees():
+            for node in tree.body:
+                if isinstance(node, ast.ImportFrom) and node.module.startswith("lastbell."):
+                    for one in node.names:
+                        self.assertIn(one.name, defined[node.module[len("lastbell."):]], name)
+
+    def test_imports_are_used(self):
+        for name, tree in trees():
+            used = {node.id for node in ast.walk(tree) if isinstance(node, ast.Name)}
+            for node in tree.body:
+                if isinstance(node, ast.ImportFrom):
+                    self.assertLessEqual({one.name for one in node.names}, used, name)
+
+    def test_module_level(self):
+        for name, tree in trees():
+            for node in tree.body:
+                docstring = isinstance(node, ast.Expr) and isinstance(node.value, ast.Constant)
+                plain = isinstance(node, (ast.ImportFrom, ast.FunctionDef, ast.ClassDef, ast.Assign))
+                self.assertTrue(docstring or plain, (name, node.lineno))
+
+    def test_statements_and_expressions(self):
+        for name, tree in trees():
+            starred = [item for node in ast.walk(tree) if isinstance(node, LET_STAR) for item in node.elts]
+            for node in ast.walk(tree):
+                if node not in starred:
+                    self.assertNotIsInstance(node, UNWANTED, (name, getattr(node, "lineno", 0)))
+                if isinstance(node, ast.Constant):
+                    self.assertNotIsInstance(node.value, (float, complex), name)
+                    self.assertFalse(isinstance(node.value, str) and "%" in node.value, (name, node.lineno))
+
+    def test_names(self):
+        for name, tree in trees():
+            bound = {node.name for node in tree.body if isinstance(node, ast.ClassDef)}
+            for node in tree.body:
+                if isinstance(node, ast.ImportFrom):
+                    bound |= {one.name for one in node.names}
+            builtin = set(dir(__builtins__) if not isinstance(__builtins__, dict) else __builtins__)
+            for node in ast.walk(tree):
+                taken = node.arg if isinstance(node, ast.arg) else None
+                if isinstance(node, ast.Name) and isinstance(node.ctx, ast.Store):
+                    taken = node.id
+                if taken is not None:
+                    self.assertNotIn(taken, bound | builtin, (name, node.lineno))
+
+    def test_calls(self):
+        own = {node.name for _, tree in trees() for node in ast.walk(tree)
+               if isinstance(node, (ast.FunctionDef, ast.ClassDef))}
+        library = {word for words in LIBRARY.values() for word in words}
+        for name, tree in trees():
+            for node in ast.walk(tree):
+                if isinstance(node, ast.Call):
+                    if isinstance(node.func, ast.Name):
+                        self.assertIn(node.func.id, own | BUILTINS | library, (name, node.lineno))
+                    else:
+                        self.assertIsInstance(node.func, ast.Attribute, (name, node.lineno))
+                        self.assertIn(node.func.attr, own | METHODS, (name, node.lineno))
+
+    def test_double_underscores(self):
+        for name, tree in trees():
+            for node in ast.walk(tree):
+                if isinstance(node, ast.FunctionDef) and node.name.startswith("__"):
+                    self.assertIn(node.name, ("__init__", "__eq__"), name)
+
+
+if __name__ == "__main__":
+    unittest.main()
