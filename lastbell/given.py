@@ -1,6 +1,6 @@
 """What is asked of the arguments that many functions share."""
 
-from lastbell.errors import BadBell, BadHouse, BadLot
+from lastbell.errors import BadBell, BadDoor, BadHouse, BadLot, BadNumbers, BadOrder, BadTurn, BadWishes
 from lastbell.houses import House
 from lastbell.kinds import is_integer, is_list, is_number
 
@@ -15,11 +15,38 @@ def need_bell(bell):
         raise BadBell(bell)
 
 
+def need_turn(turn):
+    if not is_number(turn):
+        raise BadTurn(turn)
+
+
 def given_lot(house, lot):
     """The lot, ascending, so that all that follows is the same in whatever order it was passed."""
     if not is_lot(house, lot):
         raise BadLot(lot)
     return sorted(lot)
+
+
+def need_door(house, door, sort):
+    """The number of a door of this sort is asked for."""
+    doors = house.doors()
+    if not is_number(door) or door >= len(doors) or doors[door][0] != sort:
+        raise BadDoor(door)
+
+
+def need_order(house, order):
+    if not is_lot(house, order) or len(order) != len(house.doors()):
+        raise BadOrder(order)
+
+
+def need_numbers(house, numbers):
+    if not is_numbers(house, numbers):
+        raise BadNumbers(numbers)
+
+
+def need_wishes(house, wishes):
+    if not is_numbers(house, wishes) or asked_of(house, wishes, list(range(len(wishes)))) != 0:
+        raise BadWishes(wishes)
 
 
 def is_lot(house, thing):
@@ -32,3 +59,14 @@ def is_lot(house, thing):
             return False
         seen[door] = True
     return True
+
+
+def is_numbers(house, thing):
+    """Whether it is a list of numbers, one for each door."""
+    return is_list(thing) and len(thing) == len(house.doors()) and all([is_number(one) for one in thing])
+
+
+def asked_of(house, numbers, lot):
+    """What the INS of a lot have less what its OUTS want."""
+    doors = house.doors()
+    return sum([numbers[door] if doors[door][0] == "in" else -numbers[door] for door in lot])

@@ -11,8 +11,7 @@ def most(house, lot, bell):
     need_house(house)
     chosen = given_lot(house, lot)
     need_bell(bell)
-    pairs = lot_net(house, chosen).fill(bell)
-    return sum([amount * (bell + 1 - length) for length, amount in pairs])
+    return most_by(lot_net(house, chosen).fill(bell), bell)
 
 
 def most_plan(house, lot, bell):
@@ -44,6 +43,11 @@ def lot_bell(house, lot, amount):
     if amount == 0:
         return 0
     return first_bell(lot_net(house, chosen).fill(None), amount)
+
+
+def most_by(pairs, bell):
+    """What these levels bring by a bell."""
+    return sum([amount * (bell + 1 - length) for length, amount in pairs if length <= bell])
 
 
 def first_bell(pairs, amount):

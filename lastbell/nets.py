@@ -6,7 +6,8 @@ class Net:
 
     Behind the nodes of the places stand two more, source and sink. What was laid as the k-th is arc 2 * k,
     and the way back along it, by which a flow is taken off again, arc 2 * k + 1. `free` is by arcs how much
-    may still go along them: along a way back this is just what flows.
+    may still go along them: along a way back this is just what flows. `sent` is all that was sent, as triples
+    (lengths from the source by nodes, arcs of a way, amount) in order.
     """
 
     def __init__(self, places):
@@ -17,6 +18,7 @@ class Net:
         self.ends = []
         self.lengths = []
         self.free = []
+        self.sent = []
 
     def lay(self, begin, end, length, room):
         self.leaving[begin].append(len(self.ends))
@@ -66,6 +68,7 @@ class Net:
             for arc in way:
                 self.free[arc] -= amount
                 self.free[arc ^ 1] += amount
+            self.sent.append((near, way, amount))
             total += amount
             way = self.shortest_way(near)
         return total

@@ -3,26 +3,55 @@
 from collections import deque
 
 
+class LaidOut:
+    """All turns laid out: a node for each place at each turn, as many as ever can from the source to the sink."""
+
+    def __init__(self, house, bell):
+        self.graph = {"source": {}}
+        for turn in range(bell + 1):
+            for begin, end, length, room in house.roads():
+                if turn + length <= bell:
+                    self.lay((begin, turn), (end, turn + length), room)
+
+    def lay(self, begin, end, room=10 ** 6):
+        self.graph.setdefault(begin, {})
+        self.graph.setdefault(end, {})
+        self.graph[begin][end] = self.graph[begin].get(end, 0) + room
+        self.graph[end].setdefault(begin, 0)
+
+
 def most_laid_out(house, lot, bell):
-    """The greatest flow over all turns laid out: a node for each place at each turn."""
-    graph = {}
-
-    def lay(begin, end, room):
-        graph.setdefault(begin, {})
-        graph.setdefault(end, {})
-        graph[begin][end] = graph[begin].get(end, 0) + room
-        graph[end].setdefault(begin, 0)
-
-    for turn in range(bell + 1):
-        for begin, end, length, room in house.roads():
-            if turn + length <= bell:
-                lay((begin, turn), (end, turn + length), room)
-        for door, (sort, place, hour) in enumerate(house.doors()):
+    """The greatest flow from INS of the lot to OUTS that are not of it."""
+    turns = LaidOut(house, bell)
+    for door, (sort, place, hour) in enumerate(house.doors()):
+        for turn in range(bell + 1):
             if sort == "in" and door in lot and turn >= hour:
-                lay("source", (place, turn), 10 ** 6)
+                turns.lay("source", (place, turn))
             if sort == "out" and door not in lot and turn <= bell - hour:
-                lay((place, turn), "sink", 10 ** 6)
-    return greatest_flow(graph)
+                turns.lay((place, turn), "sink")
+    return greatest_flow(turns.graph)
+
+
+def greatest_part_laid_out(house, numbers, bell):
+    """The most that can go in all if no door has more than its number."""
+    turns = LaidOut(house, bell)
+    for door, (sort, place, hour) in enumerate(house.doors()):
+        if sort == "in":
+            turns.lay("source", ("door", door), numbers[door])
+        else:
+            turns.lay(("door", door), "sink", numbers[door])
+        for turn in range(bell + 1):
+            if sort == "in" and turn >= hour:
+                turns.lay(("door", door), (place, turn))
+            if sort == "out" and turn <= bell - hour:
+                turns.lay((place, turn), ("door", door))
+    return greatest_flow(turns.graph)
+
+
+def kept_laid_out(house, wishes, bell):
+    """Whether all loads that wait can go where they are wished."""
+    waiting = sum(one for one, (sort, _, _) in zip(wishes, house.doors()) if sort == "in")
+    return greatest_part_laid_out(house, wishes, bell) == waiting
 
 
 def greatest_flow(graph):

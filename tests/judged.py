@@ -93,6 +93,21 @@ def fault_turn_by_turn(house, plan, end):
     return None
 
 
+def first_fault(house, plan, end):
+    """The triple that plan_fault has to tell, by a walk turn by turn ahead of the end, None for a plan.
+
+    The plan has the form of one, and nothing changes from the end on.
+    """
+    for turn in range(end):
+        fault = fault_at(house, plan, turn)
+        if fault:
+            word, number, _ = fault
+            if word == "place":
+                number = [amount != 0 for amount in number].index(True)
+            return turn, word, number
+    return None
+
+
 def fault_by_bell(house, plan, bell):
     """None if each OUT takes its last load at the latest its hour ahead of the bell."""
     for steps, (sort, _, hour) in zip(plan[0], house.doors()):

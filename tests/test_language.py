@@ -18,6 +18,8 @@ BARRED = re.compile(r"\b(typing|enum|Enum|Generic|Protocol|ABC|namedtuple|TypedD
 UNWANTED = (ast.Lambda, ast.AsyncFunctionDef, ast.Global, ast.Nonlocal, ast.Try, ast.With, ast.Yield, ast.YieldFrom,
             ast.GeneratorExp, ast.Starred, ast.NamedExpr, ast.Match, ast.JoinedStr, ast.Div, ast.Assert, ast.Delete)
 LET_STAR = (ast.List, ast.Tuple)
+ON_THE_SPOT = {"range", "zip", "enumerate", "reversed", "permutations", "combinations", "product"}
+TAKERS = {"list", "tuple", "sorted", "sum", "enumerate", "zip", "permutations", "combinations", "product"}
 
 
 def sources():
@@ -120,6 +122,51 @@ class LanguageTest(unittest.TestCase):
                     else:
                         self.assertIsInstance(node.func, ast.Attribute, (name, node.lineno))
                         self.assertIn(node.func.attr, own | METHODS, (name, node.lineno))
+
+    def test_no_file_imports_itself_through_others(self):
+        imported = {}
+        for name, tree in trees():
+            modules = [node.module.split(".") for node in tree.body if isinstance(node, ast.ImportFrom)]
+            imported[name[:-3]] = {words[1] for words in modules if words[0] == "lastbell"}
+        done = []
+        while len(done) < len(imported):
+            ready = [name for name in imported if name not in done and imported[name] <= set(done)]
+            self.assertTrue(ready, "files import from each other")
+            done.extend(ready)
+
+    def test_iterated_at_once(self):
+        for name, tree in trees():
+            let = set()
+            for node in ast.walk(tree):
+                if isinstance(node, (ast.For, ast.comprehension)):
+                    let.add(node.iter)
+                if isinstance(node, ast.Call) and isinstance(node.func, ast.Name) and node.func.id in TAKERS:
+                    let.update(node.args)
+            for node in ast.walk(tree):
+                if isinstance(node, ast.Call):
+                    called = node.func.id if isinstance(node.func, ast.Name) else node.func.attr
+                    if called in ON_THE_SPOT or called in ("items", "keys", "values"):
+                        self.assertIn(node, let, (name, node.lineno))
+
+    def test_sets_and_is(self):
+        """No sets are needed; `is` only stands beside None, True and False."""
+        for name, tree in trees():
+            for node in ast.walk(tree):
+                self.assertNotIsInstance(node, (ast.Set, ast.SetComp), name)
+                if isinstance(node, ast.Compare) and any(isinstance(op, (ast.Is, ast.IsNot)) for op in node.ops):
+                    self.assertEqual(len(node.ops), 1, (name, node.lineno))
+                    self.assertIsInstance(node.comparators[0], ast.Constant, (name, node.lineno))
+                    self.assertIn(node.comparators[0].value, (None, True, False), (name, node.lineno))
+
+    def test_no_attribute_is_a_method_of_its_class(self):
+        for name, tree in trees():
+            for node in tree.body:
+                if isinstance(node, ast.ClassDef):
+                    methods = {part.name for part in node.body if isinstance(part, ast.FunctionDef)}
+                    self.assertEqual(len(methods), len(node.body) - (ast.get_docstring(node) is not None), name)
+                    stored = {part.attr for part in ast.walk(node)
+                              if isinstance(part, ast.Attribute) and isinstance(part.ctx, ast.Store)}
+                    self.assertFalse(methods & stored, (name, node.name))
 
     def test_double_underscores(self):
         for name, tree in trees():

@@ -6,14 +6,8 @@ from lastbell.errors import BadAmount, BadBell, BadHouse, BadLot
 from lastbell.houses import House
 from lastbell.lots import levels, lot_bell, most, most_plan, steady
 from tests.made import H_DOORS, H_ROADS, all_lots, example, small_house
-from tests.things import a_function, deep, no_houses, no_lists, no_numbers
-
-
-def bad_lots():
-    """Things that are no lot of a house with four doors."""
-    return no_lists() + [[0, 0], [1, 2, 1], (3, 3), [4], [0, 4], [-1], [0, -1], [10 ** 9], [True], [0, True],
-                         [1, True], [False], ["0"], "01", [None], [[0]], [(0,)], [0, [1]], [{}], [a_function],
-                         [0, 1, 2, 3, 4], [0, 1, 2, 3, 0], [example()], deep(45), list(range(5000)), [0] * 5000]
+from tests.refusals import bad_lots
+from tests.things import no_houses, no_numbers
 
 
 class ExampleTest(unittest.TestCase):
