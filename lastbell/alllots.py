@@ -3,8 +3,13 @@
 
 def all_lots(house):
     """All lots, ascending as lists compare."""
+    return lots_among(list(range(len(house.doors()))))
+
+
+def lots_among(doors):
+    """All lots of these doors, whose numbers rise, ascending as lists compare."""
     lots = [[]]
-    for door in range(len(house.doors())):
+    for door in doors:
         lots = lots + [[*lot, door] for lot in lots]
     return sorted(lots)
 

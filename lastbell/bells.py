@@ -2,7 +2,7 @@
 
 from lastbell.alllots import all_lots, least_lot, lots_of_greatest
 from lastbell.errors import Never
-from lastbell.given import asked_of, need_door, need_house, need_wishes
+from lastbell.given import asked_of, need_house, need_sort, need_wishes
 from lastbell.lots import first_bell, levels, lot_bell, most_by
 
 
@@ -46,8 +46,8 @@ def rising(house, wishes):
 def bell_with(house, wishes, door, other):
     need_house(house)
     need_wishes(house, wishes)
-    need_door(house, door, "in")
-    need_door(house, other, "out")
+    need_sort(house, door, "in")
+    need_sort(house, other, "out")
     more = list(wishes)
     more[door] += 1
     more[other] += 1

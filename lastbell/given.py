@@ -27,15 +27,21 @@ def given_lot(house, lot):
     return sorted(lot)
 
 
-def need_door(house, door, sort):
+def need_door(house, door):
+    """The number of any door is asked for."""
+    if not is_number(door) or door >= len(house.doors()):
+        raise BadDoor(door)
+
+
+def need_sort(house, door, sort):
     """The number of a door of this sort is asked for."""
-    doors = house.doors()
-    if not is_number(door) or door >= len(doors) or doors[door][0] != sort:
+    need_door(house, door)
+    if house.doors()[door][0] != sort:
         raise BadDoor(door)
 
 
 def need_order(house, order):
-    if not is_lot(house, order) or len(order) != len(house.doors()):
+    if not is_order(house, order):
         raise BadOrder(order)
 
 
@@ -59,6 +65,10 @@ def is_lot(house, thing):
             return False
         seen[door] = True
     return True
+
+
+def is_order(house, thing):
+    return is_lot(house, thing) and len(thing) == len(house.doors())
 
 
 def is_numbers(house, thing):

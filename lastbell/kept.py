@@ -19,7 +19,12 @@ def lacking(house, wishes, bell):
     need_house(house)
     need_wishes(house, wishes)
     need_bell(bell)
-    return lots_of_greatest([(lot, asked_of(house, wishes, lot) - most(house, lot, bell)) for lot in all_lots(house)])
+    return lots_of_greatest([(lot, -left) for lot, left in spares(house, wishes, bell)])
+
+
+def spares(house, wishes, bell):
+    """All lots, each with its most less what is asked: below 0 by as much as it lacks."""
+    return [(lot, most(house, lot, bell) - asked_of(house, wishes, lot)) for lot in all_lots(house)]
 
 
 def lot_for(house, wishes, bell):

@@ -39,9 +39,13 @@ def corners(house, bell):
     mosts = mosts_of_lots(house, bell)
     found = {}
     for order in permutations(range(len(house.doors()))):
-        told = differences(order, [mosts[lot] for lot in beginnings(order)])
-        found[tuple(told)] = True
+        found[tuple(corner_by(mosts, order))] = True
     return [list(told) for told in sorted(found)]
+
+
+def corner_by(mosts, order):
+    """The corner of an order; mosts has, by lots, their most."""
+    return differences(order, [mosts[lot] for lot in beginnings(order)])
 
 
 def order_of(house, wishes, bell):

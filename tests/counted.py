@@ -100,19 +100,23 @@ def most_by_rings(house, lot, bell):
         both.append([begin, end, length, room])
         both.append([end, begin, -length, 0])
     gained = 0
-    ring = bettering_ring(both)
-    while ring:
-        amount = min(both[at][3] for at in ring)
-        gained -= amount * sum(both[at][2] for at in ring)
-        for at in ring:
-            both[at][3] -= amount
-            both[at ^ 1][3] += amount
-        ring = bettering_ring(both)
+    # Wide rings first: else narrow arcs could make wide ones better one load at a time, for ages.
+    least = 2 ** 80
+    while least:
+        ring = bettering_ring(both, least)
+        while ring:
+            amount = min(both[at][3] for at in ring)
+            gained -= amount * sum(both[at][2] for at in ring)
+            for at in ring:
+                both[at][3] -= amount
+                both[at ^ 1][3] += amount
+            ring = bettering_ring(both, least)
+        least //= 16
     return gained
 
 
-def bettering_ring(both):
-    """The indexes of arcs of a ring of length below 0 with room left, None if there is none."""
+def bettering_ring(both, least):
+    """The indexes of arcs of a ring of length below 0 with so much room left, None if there is none."""
     nodes = {arc[0] for arc in both}
     far = {node: 0 for node in nodes}
     came = {}
@@ -120,7 +124,7 @@ def bettering_ring(both):
     for _ in range(len(nodes) + 1):
         last = None
         for at, (begin, end, length, room) in enumerate(both):
-            if room > 0 and far[begin] + length < far[end]:
+            if room >= least and far[begin] + length < far[end]:
                 far[end] = far[begin] + length
                 came[end] = at
                 last = end
