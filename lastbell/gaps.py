@@ -59,20 +59,20 @@ class Gap:
         Strengths go from 1 to the top; at 0 nothing lacks. If nothing does at the top, either, it is one more,
         and None. A lot that lacks does so at each greater strength.
         """
-        weakest = top + 1
+        least = top + 1
         found = None
         for others in lots_among(self.group[1:]):
-            if weakest > 1 and self.lacks(self.parts_of(room, weakest - 1), others):
+            if least > 1 and self.lacks(self.parts_of(room, least - 1), others):
                 low = 0
-                weakest -= 1
-                while weakest - low > 1:
-                    middle = (low + weakest) // 2
+                least -= 1
+                while least - low > 1:
+                    middle = (low + least) // 2
                     if self.lacks(self.parts_of(room, middle), others):
-                        weakest = middle
+                        least = middle
                     else:
                         low = middle
                 found = others
-        return weakest, found
+        return least, found
 
     def parts_of(self, room, strength):
         """One part as wide as it is strong; or, if there is one of this room, another one as much sooner."""

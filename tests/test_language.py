@@ -15,6 +15,8 @@ METHODS = {"append", "clear", "copy", "count", "extend", "get", "index", "insert
            "remove", "reverse", "setdefault", "update", "values", "sort"}
 BARRED = re.compile(r"\b(typing|enum|Enum|Generic|Protocol|ABC|namedtuple|TypedDict|Flag|register|mro|_wall)\b"
                     r"|dataclass|overload|contextmanager")
+NO_ATTRIBUTES = {"items", "keys", "values", "pop", "update", "append", "clear", "extend", "insert", "remove", "reverse",
+                 "setdefault", "sort", "args", "encode", "decode", "hex", "fromhex", "format", "mro", "open", "input"}
 UNWANTED = (ast.Lambda, ast.AsyncFunctionDef, ast.Global, ast.Nonlocal, ast.Try, ast.With, ast.Yield, ast.YieldFrom,
             ast.GeneratorExp, ast.Starred, ast.NamedExpr, ast.Match, ast.JoinedStr, ast.Div, ast.Assert, ast.Delete)
 LET_STAR = (ast.List, ast.Tuple)
@@ -167,6 +169,29 @@ class LanguageTest(unittest.TestCase):
                     stored = {part.attr for part in ast.walk(node)
                               if isinstance(part, ast.Attribute) and isinstance(part.ctx, ast.Store)}
                     self.assertFalse(methods & stored, (name, node.name))
+
+    def test_attributes_have_no_name_of_a_builtin_value(self):
+        for name, tree in trees():
+            for node in ast.walk(tree):
+                if isinstance(node, ast.Attribute) and isinstance(node.ctx, ast.Store):
+                    self.assertNotIn(node.attr, NO_ATTRIBUTES, (name, node.lineno))
+
+    def test_what_a_loop_goes_over_is_not_changed_in_it(self):
+        """By its name: no item of it is assigned, and no method of it called, within the loop."""
+        for name, tree in trees():
+            for loop in ast.walk(tree):
+                if isinstance(loop, ast.For):
+                    over = {node.id for node in ast.walk(loop.iter) if isinstance(node, ast.Name)}
+                    for node in [node for part in loop.body for node in ast.walk(part)]:
+                        if isinstance(node, ast.Subscript) and isinstance(node.ctx, ast.Store):
+                            held = node.value
+                        elif (isinstance(node, ast.Call) and isinstance(node.func, ast.Attribute)
+                              and node.func.attr in ("append", "extend", "pop", "clear", "insert", "remove", "update")):
+                            held = node.func.value
+                        else:
+                            continue
+                        if isinstance(held, ast.Name):
+                            self.assertNotIn(held.id, over, (name, node.lineno))
 
     def test_double_underscores(self):
         for name, tree in trees():

@@ -205,6 +205,14 @@ class IsMixTest(unittest.TestCase):
             mix = [(order, share) for (order, _), share in zip(MIX, shares)]
             self.assertIs(is_mix_for(example(), KEPT, 7, mix), False)
 
+    def test_shares_of_nothing_and_below(self):
+        (order, half), other = MIX
+        for more in ([(order, (0, 1))], [(order, (1, 1)), (order, (-1, 1))], [(order, (-1, 2)), (other[0], (1, 2))]):
+            self.assertIs(is_mix_for(example(), KEPT, 7, MIX + more), False)
+            self.assertIs(is_mix_for(example(), KEPT, 7, more + MIX), False)
+        self.assertIs(is_mix_for(example(), KEPT, 7, [(order, (3, 2)), (order, (-1, 1)), other]), False)
+        self.assertIs(is_mix_for(example(), KEPT, 7, [(order, half), (order, (0, 1)), other]), False)
+
     def test_parted_in_two_and_orders_more_than_once(self):
         for number, house in enumerate(near_houses()[::2]):
             wishes = mean_of_corners(house, 9, number)
