@@ -70,15 +70,15 @@ def is_mix_for(house, wishes, bell, thing):
     if not is_mix(house, thing):
         return False
     times = 1
-    for _, (_, bottom) in thing:
-        times = lcm(times, bottom)
+    for _, share in thing:
+        times = lcm(times, share[1])
     mosts = mosts_of_lots(house, bell)
     shares = 0
     sums = [0] * len(wishes)
     for order, (top, bottom) in thing:
-        share = top * (times // bottom)
-        shares += share
-        sums = [total + share * one for total, one in zip(sums, corner_by(mosts, order))]
+        part = top * (times // bottom)
+        shares += part
+        sums = [total + part * one for total, one in zip(sums, corner_by(mosts, order))]
     return shares == times and sums == [times * one for one in wishes]
 
 
